@@ -1,0 +1,1 @@
+"""Reports of a laboratory, and who was told what."""
