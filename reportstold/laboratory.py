@@ -1,15 +1,20 @@
 """The calls on one laboratory, handed in as one list of whole numbers and answered as one."""
 
+from reportstold.comparing import hold_against
+from reportstold.layout import lay_out
 from reportstold.records import Answer, CORRECTED, FINAL, Laboratory, Version, WITHDRAWN
-from reportstold.records import is_day, is_flag, is_person, is_reader, newest_number, stands
-from reportstold.sending import all_duties, make_letter, make_report
-from reportstold.signs import is_name, is_word
-from reportstold.templates import Template, read_template
+from reportstold.records import answer_of_test, file_of, newest_number, stands
+from reportstold.records import is_day, is_flag, is_person, is_reader
+from reportstold.sending import all_duties, due_numbers, make_letter, make_report, told_to
+from reportstold.signs import ended_lines, is_name, is_plain, is_word, lines_of
+from reportstold.templates import Template, printed_lines, read_template
+from reportstold.wrapping import put_into_lines
 
 MOST_TEMPLATES = 8
 MOST_ANSWERS = 60
 MOST_VERSIONS = 6
 MOST_SENT = 40
+GREATEST_WIDTH = 100
 
 NO_SUCH_ONE = -1
 WRONG_FORM = -2
@@ -18,7 +23,6 @@ NO_ROOM = -6
 NOTHING_DUE = -8
 
 # By a call's number: how many whole numbers it has, then how many rows.
-# All 17 are here, so that a call which isn't built yet is stepped over rightly.
 FORMS = (
     (0, 1), (3, 3), (2, 1), (1, 0), (4, 0), (1, 0), (1, 0), (1, 0), (0, 0),
     (2, 0), (1, 0), (3, 0), (1, 0), (1, 1), (2, 0), (2, 1), (0, 0),
@@ -151,17 +155,96 @@ def list_duties(laboratory, call):
     return row
 
 
-BUILT_CALLS = (
-    add_template, add_answer, correct_answer, withdraw_answer, issue_report,
-    send_letter, show_sent, tell_about, list_duties,
+def tell_told(laboratory, call):
+    reader = call.numbers[0]
+    number = call.numbers[1]
+    if not (is_reader(reader) and has_place(laboratory.answers, number)):
+        return [NO_SUCH_ONE]
+    told = told_to(laboratory, reader)
+    if number not in told:
+        return [0, 0]
+    return [0, 1, told[number], 1 if number in due_numbers(laboratory, told) else 0]
+
+
+def list_versions(laboratory, call):
+    number = call.numbers[0]
+    if not has_place(laboratory.answers, number):
+        return [NO_SUCH_ONE]
+    answer = laboratory.answers[number]
+    row = [0, answer.person, answer.day] + with_count(answer.test) + with_count(answer.unit)
+    row.append(len(answer.versions))
+    for version in answer.versions:
+        row.extend([version.status, version.flag] + with_count(version.value))
+    return row
+
+
+def preview_report(laboratory, call):
+    number = call.numbers[0]
+    person = call.numbers[1]
+    day = call.numbers[2]
+    if not (has_place(laboratory.templates, number) and is_person(person) and is_day(day)):
+        return [NO_SUCH_ONE]
+    return [0] + with_count(lay_out(laboratory.templates[number], laboratory.answers, person, day).row)
+
+
+def print_template(laboratory, call):
+    number = call.numbers[0]
+    if not has_place(laboratory.templates, number):
+        return [NO_SUCH_ONE]
+    return [0] + with_count(ended_lines(printed_lines(laboratory.templates[number])))
+
+
+def wrap_text(laboratory, call):
+    width = call.numbers[0]
+    text = call.rows[0]
+    if not 1 <= width <= GREATEST_WIDTH:
+        return [NO_SUCH_ONE]
+    if not is_plain(text):
+        return [WRONG_FORM]
+    lines = put_into_lines(text, width)
+    row = [0, len(lines)]
+    for line in lines:
+        row.extend(with_count(line))
+    return row
+
+
+def compare_sent(laboratory, call):
+    number = call.numbers[0]
+    other = call.numbers[1]
+    if not (has_place(laboratory.sent, number) and has_place(laboratory.sent, other)):
+        return [NO_SUCH_ONE]
+    return [0] + with_count(hold_against(lines_of(laboratory.sent[number].row), lines_of(laboratory.sent[other].row)))
+
+
+def find_newest(laboratory, call):
+    person = call.numbers[0]
+    day = call.numbers[1]
+    test = call.rows[0]
+    if not (is_person(person) and is_day(day)):
+        return [NO_SUCH_ONE]
+    if not is_name(test):
+        return [WRONG_FORM]
+    answer = answer_of_test(file_of(laboratory.answers, person, day), test)
+    if answer is None:
+        return [0, 0]
+    return [0, 1, answer.number, newest_number(answer)]
+
+
+def count_all(laboratory, call):
+    counts = [len(laboratory.templates), len(laboratory.answers), len(laboratory.sent)]
+    return [0] + counts + [len(all_duties(laboratory))]
+
+
+# By a call's number: the function that answers it.
+ANSWERED_BY = (
+    add_template, add_answer, correct_answer, withdraw_answer, issue_report, send_letter, show_sent, tell_about,
+    list_duties, tell_told, list_versions, preview_report, print_template, wrap_text, compare_sent, find_newest,
+    count_all,
 )
 
 
 def answer_call(laboratory, call):
-    # The calls that aren't built yet change nothing, so the others are right beside them.
-    if call.kind >= len(BUILT_CALLS):
-        return []
-    return BUILT_CALLS[call.kind](laboratory, call)
+    return ANSWERED_BY[call.kind](laboratory, call)
 
 
 def read_call(calls, start):

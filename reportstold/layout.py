@@ -51,9 +51,9 @@ def page_lines(layout, template, portion, page):
     number = number_row(page)
     count = number_row(layout.pages)
     if template.head is not None:
-        lines.insert(0, fill_holes(layout, template.head, number, count)[:template.width])
+        lines.insert(0, fill_holes(layout, template.head.pieces, number, count)[:template.width])
     if template.foot is not None:
-        lines.append(fill_holes(layout, template.foot, number, count)[:template.width])
+        lines.append(fill_holes(layout, template.foot.pieces, number, count)[:template.width])
     return lines
 
 

@@ -1,7 +1,7 @@
 """Templates: a text is read into settings and parts, or told wrong by its first wrong line."""
 
 from reportstold.signs import BLANK, CLOSING, OPENING
-from reportstold.signs import is_digit, is_name, is_plain, known_text, lines_of, row_of, split_at
+from reportstold.signs import is_digit, is_name, is_plain, known_text, lines_of, number_row, row_of, split_at
 
 FIRST_WORDS = ("width", "lines", "head", "foot", "text", "row", "table", "blank", "if", "end")
 SETTINGS = ("width", "lines", "head", "foot")
@@ -22,11 +22,13 @@ IF_UNPAIRED = 3
 TOO_MANY_PARTS = 4
 
 
-# A line that means something. Which of the values holds anything depends on the kind:
+# A line that means something. Which of the last three values holds anything depends on the kind:
 # number for width and lines, names for row, table and if, pieces for head, foot and text.
 class Entry:
-    def __init__(self, kind, number, names, pieces):
+    def __init__(self, kind, line, number, names, pieces):
         self.kind = kind
+        # Each kind has one written form alone, so the line as it came is also how it's printed.
+        self.line = line
         self.number = number
         self.names = names
         self.pieces = pieces
@@ -37,8 +39,8 @@ class Template:
         self.width = settings["width"].number if "width" in settings else USUAL_WIDTH
         self.lines = settings["lines"].number if "lines" in settings else USUAL_LINES
         # An empty head is a line of the page all the same, so none at all is None.
-        self.head = settings["head"].pieces if "head" in settings else None
-        self.foot = settings["foot"].pieces if "foot" in settings else None
+        self.head = settings.get("head")
+        self.foot = settings.get("foot")
         self.parts = parts
 
 
@@ -109,24 +111,24 @@ def read_line(line):
     kind = known_text(words[0], FIRST_WORDS)
     behind = words[1:]
     if kind in RANGES:
-        return read_number_line(kind, behind)
+        return read_number_line(kind, line, behind)
     if kind in MOST_NAMES:
-        return read_names_line(kind, behind)
+        return read_names_line(kind, line, behind)
     if kind in ("head", "foot", "text"):
         return read_text_line(kind, line)
     if kind in ("blank", "end") and behind == []:
-        return Entry(kind, 0, [], [])
+        return Entry(kind, line, 0, [], [])
     return None
 
 
-def read_number_line(kind, behind):
+def read_number_line(kind, line, behind):
     if len(behind) != 1:
         return None
     number = written_number(behind[0])
     bounds = RANGES[kind]
     if not bounds[0] <= number <= bounds[1]:
         return None
-    return Entry(kind, number, [], [])
+    return Entry(kind, line, number, [], [])
 
 
 # Gives -1, which is out of every range, for what is no number in its one right form.
@@ -139,10 +141,10 @@ def written_number(digits):
     return number
 
 
-def read_names_line(kind, behind):
+def read_names_line(kind, line, behind):
     if not 1 <= len(behind) <= MOST_NAMES[kind] or not all([is_name(word) for word in behind]):
         return None
-    return Entry(kind, 0, behind, [])
+    return Entry(kind, line, 0, behind, [])
 
 
 def read_text_line(kind, line):
@@ -152,7 +154,7 @@ def read_text_line(kind, line):
     pieces = text_pieces(line[size + 1:])
     if pieces is None:
         return None
-    return Entry(kind, 0, [], pieces)
+    return Entry(kind, line, 0, [], pieces)
 
 
 # The pieces are pairs of a kind and a row: plain bytes, or a hole with its name, if it has one.
@@ -182,3 +184,11 @@ def read_hole(inside):
     if inside[:len(front)] == front and is_name(name):
         return ("value", name)
     return None
+
+
+def printed_lines(template):
+    lines = [row_of("width ") + number_row(template.width), row_of("lines ") + number_row(template.lines)]
+    for entry in (template.head, template.foot):
+        if entry is not None:
+            lines.append(entry.line)
+    return lines + [part.line for part in template.parts]

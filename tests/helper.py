@@ -51,6 +51,38 @@ def duties():
     return [8]
 
 
+def told(reader, number):
+    return [9, reader, number]
+
+
+def versions(number):
+    return [10, number]
+
+
+def preview(number=0, person=1, day=100):
+    return [11, number, person, day]
+
+
+def printed(number=0):
+    return [12, number]
+
+
+def wrap(width, text):
+    return [13, width] + row(text)
+
+
+def diff(first, second):
+    return [14, first, second]
+
+
+def newest(person, day, test):
+    return [15, person, day] + row(test)
+
+
+def counts():
+    return [16]
+
+
 def run(*calls):
     """What each of the calls is answered, as one list each."""
     numbers = [number for call in calls for number in call]
@@ -71,7 +103,7 @@ def taken_apart(numbers):
 
 
 def text_of(shown):
-    """The text of what show answered."""
+    """The text of what show, preview or print answered."""
     assert shown[0] == 0 and shown[1] == len(shown) - 2, shown[:2]
     return bytes(shown[2:]).decode("latin-1")
 

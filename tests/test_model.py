@@ -4,7 +4,8 @@ import random
 import re
 import unittest
 
-from tests.helper import about, answer, correct, duties, issue, letter, row, run, show, template_text, withdraw
+from tests.helper import (about, answer, correct, counts, diff, duties, issue, letter, newest, preview, printed, row,
+                          run, show, template_text, told, versions, withdraw, wrap)
 
 NAME = r"[A-Za-z][A-Za-z0-9]{0,7}"
 WORD = r"[!-z|~]{1,12}"
@@ -45,7 +46,7 @@ def read(text):
     return (len(lines) + 1, 3) if depth else (settings, parts)
 
 
-def wrap(text, width):
+def in_lines(text, width):
     pieces = re.findall("[^ ]{1,%d}" % width, text)
     lines = pieces[:1] or [""]
     for piece in pieces[1:]:
@@ -56,6 +57,28 @@ def wrap(text, width):
     return lines
 
 
+def held(first, second):
+    """The numbers by a table of how many lines can be both's from each two places on."""
+    most = {}
+    for place in range(len(first), -1, -1):
+        for other in range(len(second), -1, -1):
+            if place == len(first) or other == len(second):
+                most[place, other] = 0
+            elif first[place] == second[other]:
+                most[place, other] = 1 + most[place + 1, other + 1]
+            else:
+                most[place, other] = max(most[place + 1, other], most[place, other + 1])
+    numbers, place, other = [], 0, 0
+    while (place, other) != (len(first), len(second)):
+        if first[place:place + 1] == second[other:other + 1]:
+            numbers, place, other = numbers + [0], place + 1, other + 1
+        elif other == len(second) or place < len(first) and most[place + 1, other] == most[place, other]:
+            numbers, place = numbers + [1], place + 1
+        else:
+            numbers, other = numbers + [2], other + 1
+    return numbers
+
+
 def shown(version):
     return "withdrawn" if version is None else version[0] + ("", " L", " H", " !")[version[1]]
 
@@ -63,7 +86,8 @@ def shown(version):
 class Model:
     def __init__(self):
         self.templates, self.answers, self.sent = [], [], []
-        self.left = {4: 20, 6: 40}
+        # Of issue, preview and diff together, and of show, a list has no more than these.
+        self.left = {"laid out": 20, "shown": 40}
 
     def template(self, text):
         made = read(text)
@@ -128,7 +152,7 @@ class Model:
             elif False in outer:
                 continue
             elif kind == "text":
-                body += wrap(fill(rest), width)
+                body += in_lines(fill(rest), width)
             elif kind == "blank":
                 body.append("")
             elif kind == "row":
@@ -162,13 +186,17 @@ class Model:
         self.sent.append((0, reader, person, pages, tells, text))
         return [0, len(self.sent) - 1, pages]
 
-    def due(self, reader):
-        told = {}
+    def known(self, reader):
+        known = {}
         for thing in self.sent:
             if thing[1] == reader:
                 for number, version in thing[4].items():
-                    told[number] = max(told.get(number, -1), version)
-        return {n: told[n] for n in sorted(told) if told[n] < len(self.answers[n][4]) - 1}
+                    known[number] = max(known.get(number, -1), version)
+        return known
+
+    def due(self, reader):
+        known = self.known(reader)
+        return {n: known[n] for n in sorted(known) if known[n] < len(self.answers[n][4]) - 1}
 
     def letter(self, reader):
         if reader not in range(20):
@@ -197,6 +225,61 @@ class Model:
     def duties(self):
         pairs = [(reader, number) for reader in range(20) for number in self.due(reader)]
         return [0, len(pairs)] + [x for pair in pairs for x in pair]
+
+    def told(self, reader, number):
+        if reader not in range(20) or number not in range(len(self.answers)):
+            return [-1]
+        known = self.known(reader)
+        return [0, 1, known[number], int(number in self.due(reader))] if number in known else [0, 0]
+
+    def versions(self, number):
+        if number not in range(len(self.answers)):
+            return [-1]
+        person, day, test, unit, kept = self.answers[number]
+        answered = [0, person, day] + row(test) + row(unit) + [len(kept)]
+        for place, version in enumerate(kept):
+            answered += [2, 0, 0] if version is None else [min(place, 1), version[1]] + row(version[0])
+        return answered
+
+    def preview(self, number, person, day):
+        if not (number in range(len(self.templates)) and 1 <= person <= 10 ** 9 and 0 <= day <= 10 ** 5):
+            return [-1]
+        return [0] + row(self.lay_out(self.templates[number], person, day)[0])
+
+    def printed(self, number):
+        if number not in range(len(self.templates)):
+            return [-1]
+        settings, parts = self.templates[number]
+        lines = [f"{word} {settings[word]}" for word in ("head", "foot") if word in settings]
+        lines += [kind if kind in ("blank", "end") else f"{kind} {rest}" for kind, rest in parts]
+        front = f"width {settings.get('width', 60)}\nlines {settings.get('lines', 40)}\n"
+        return [0] + row(front + "".join(line + "\n" for line in lines))
+
+    def wrap(self, width, text):
+        if width not in range(1, 101):
+            return [-1]
+        if not re.fullmatch("[ -~]*", text):
+            return [-2]
+        lines = in_lines(text, width)
+        return [0, len(lines)] + [x for line in lines for x in row(line)]
+
+    def diff(self, place, other):
+        if place not in range(len(self.sent)) or other not in range(len(self.sent)):
+            return [-1]
+        numbers = held(self.sent[place][5].split("\n")[:-1], self.sent[other][5].split("\n")[:-1])
+        return [0, len(numbers)] + numbers
+
+    def newest(self, person, day, test):
+        if not (1 <= person <= 10 ** 9 and 0 <= day <= 10 ** 5):
+            return [-1]
+        if not re.fullmatch(NAME, test):
+            return [-2]
+        found = [(a[1], n, len(a[4]) - 1) for n, a in enumerate(self.answers)
+                 if a[0] == person and a[1] <= day and a[2] == test and a[4][-1] is not None]
+        return [0, 1, *max(found)[1:]] if found else [0, 0]
+
+    def counts(self):
+        return [0, len(self.templates), len(self.answers), len(self.sent), self.duties()[1]]
 
 
 def some_text(chance):
@@ -247,10 +330,11 @@ def some_word(chance):
 
 def some_call(chance, model):
     """A call and what the plainer program answers to it."""
-    kind = chance.choice((0, 1, 1, 1, 1, 2, 2, 3, 4, 4, 5, 6, 6, 7, 8))
-    if kind in model.left:
-        model.left[kind] -= 1
-        kind = kind if model.left[kind] >= 0 else 8
+    kind = chance.choice((0, 1, 1, 1, 1, 2, 2, 3, 4, 4, 4, 5, 6, 6, 7, 8, 9, 9, 10, 11, 12, 13, 14, 14, 15, 15, 16))
+    bound = {4: "laid out", 11: "laid out", 14: "laid out", 6: "shown"}.get(kind)
+    if bound is not None:
+        model.left[bound] -= 1
+        kind = kind if model.left[bound] >= 0 else 8
     person = number_near(chance, 1, 2, (0, 10 ** 9, 10 ** 9 + 1))
     day = number_near(chance, 0, 12, (-1, 100001))
     flag = number_near(chance, 0, 3, (-1, 4))
@@ -279,22 +363,47 @@ def some_call(chance, model):
     if kind == 7:
         number = chance.randint(-1, len(model.sent))
         return about(number), model.about(number)
-    return duties(), model.duties()
+    if kind == 8:
+        return duties(), model.duties()
+    return some_later_call(chance, model, kind, person, day, reader, place)
+
+
+def some_later_call(chance, model, kind, person, day, reader, place):
+    number = chance.randint(0, max(0, len(model.templates) - 1)) if chance.random() < 0.95 else len(model.templates)
+    if kind == 9:
+        return told(reader, place), model.told(reader, place)
+    if kind == 10:
+        return versions(place), model.versions(place)
+    if kind == 11:
+        return preview(number, person, day), model.preview(number, person, day)
+    if kind == 12:
+        return printed(number), model.printed(number)
+    if kind == 13:
+        width, text = number_near(chance, 1, 30, (0, 99, 100, 101)), some_text(chance)[:300]
+        return wrap(width, text), model.wrap(width, text)
+    if kind == 14:
+        first, second = [chance.randint(-(chance.random() < 0.05), len(model.sent)) for step in range(2)]
+        return diff(first, second), model.diff(first, second)
+    if kind == 15:
+        test = chance.choice(("A", "B2", "c", "A", "B2", "c", "Other123", "2B"))
+        return newest(person, day, test), model.newest(person, day, test)
+    return counts(), model.counts()
 
 
 class HeldAgainstThePlainerProgram(unittest.TestCase):
     def test_many_lists_of_calls(self):
         seen = {}
-        for seed in range(150):
+        for seed in range(400):
             chance, model = random.Random(seed), Model()
-            pairs = [some_call(chance, model) for step in range(150)]
+            pairs = [some_call(chance, model) for step in range(250)]
             answered = run(*[call for call, wanted in pairs])
             for place, (call, wanted) in enumerate(pairs):
                 self.assertEqual(answered[place], wanted, (seed, place, call))
                 seen[call[0], wanted[0] if wanted[0] != 1 else wanted[2]] = True
         wanted = [(0, 0), (0, 1), (0, 2), (0, 3), (0, 4), (0, -6), (1, 0), (1, -1), (1, -2), (2, 0), (2, -1), (2, -2),
                   (2, -3), (2, -6), (3, 0), (3, -1), (3, -3), (4, 0), (4, -1), (5, 0), (5, -1), (5, -8), (6, 0),
-                  (6, -1), (7, 0), (7, -1), (8, 0)]
+                  (6, -1), (7, 0), (7, -1), (8, 0), (9, 0), (9, -1), (10, 0), (10, -1), (11, 0), (11, -1), (12, 0),
+                  (12, -1), (13, 0), (13, -1), (13, -2), (14, 0), (14, -1), (15, 0), (15, -1), (15, -2), (16, 0)]
         self.assertEqual([pair for pair in wanted if pair not in seen], [])
 
 

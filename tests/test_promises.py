@@ -1,10 +1,10 @@
-"""Promises 1 to 3, held against many lists of calls, which are the same each time."""
+"""Promises 1 to 3, held against many lists of calls, which are the same each time. (Promise 4 is with diff's tests.)"""
 
 import random
 import unittest
 
-from tests.helper import (about, answer, correct, duties, issue, letter, pages_of, report, run, show, template,
-                          text_of, withdraw)
+from tests.helper import (about, answer, correct, counts, diff, duties, issue, letter, newest, pages_of, preview,
+                          printed, report, run, show, template, text_of, told, versions, withdraw, wrap)
 
 WIDTHS = (20, 33, 60, 100)
 PARTS = ("row A", "row B", "table A B", "table C A", "text of {value A} and {value C}", "blank", "if A", "if B", "end")
@@ -48,7 +48,7 @@ def some_calls(chance):
 
 
 def sent_count(answered, calls):
-    return sum(1 for call, told in zip(calls, answered) if call[0] in (4, 5) and told[0] == 0)
+    return sum(1 for call, each in zip(calls, answered) if call[0] in (4, 5) and each[0] == 0)
 
 
 class WhatWasSentIsShownAgain(unittest.TestCase):
@@ -67,21 +67,43 @@ class WhatWasSentIsShownAgain(unittest.TestCase):
             self.assertEqual(list(at_once), list(range(len(at_once))))
 
 
+    def test_whatever_is_asked_between(self):
+        for seed in range(30, 50):
+            calls = some_calls(random.Random(seed))
+            asking = [told(0, 0), versions(0), preview(0, 1, 9), printed(0), wrap(5, "a b"), diff(0, 0),
+                      newest(1, 9, "A"), counts()]
+            shown = [call for number in range(5) for call in (show(number), about(number))]
+            with_asking = [call for place, each in enumerate(calls) for call in (each, asking[place % 8])]
+            self.assertEqual(run(*with_asking, *shown)[2 * len(calls):], run(*calls, *shown)[len(calls):])
+
+    def test_a_report_is_its_preview_byte_for_byte(self):
+        compared = 0
+        for seed in range(50, 60):
+            calls = some_calls(random.Random(seed))
+            for place, call in enumerate(calls):
+                if call[0] == 4:
+                    answered = run(*calls[:place], preview(*call[1:4]), *calls[place:])
+                    if answered[place + 1][0] == 0:
+                        self.assertEqual(answered[place], run(*calls, show(answered[place + 1][1]))[-1])
+                        compared += 1
+        self.assertGreater(compared, 50)
+
+
 class WhoIsDue(unittest.TestCase):
     def expected(self, calls, answered, number_of_sent):
         """Duties by what about tells of all that was sent and by the versions there are."""
-        newest = {}
-        for call, told in zip(calls, answered):
-            if call[0] == 1 and told[0] == 0:
-                newest[told[1]] = 0
-            if call[0] in (2, 3) and told[0] == 0:
-                newest[call[1]] = told[1]
+        last = {}
+        for call, each in zip(calls, answered):
+            if call[0] == 1 and each[0] == 0:
+                last[each[1]] = 0
+            if call[0] in (2, 3) and each[0] == 0:
+                last[call[1]] = each[1]
         greatest = {}
-        for told in run(*calls, *[about(number) for number in range(number_of_sent)])[len(calls):]:
-            for number, version in zip(told[6::2], told[7::2]):
-                pair = (told[2], number)
+        for each in run(*calls, *[about(number) for number in range(number_of_sent)])[len(calls):]:
+            for number, version in zip(each[6::2], each[7::2]):
+                pair = (each[2], number)
                 greatest[pair] = max(version, greatest.get(pair, 0))
-        return sorted(pair for pair, version in greatest.items() if version < newest[pair[1]])
+        return sorted(pair for pair, version in greatest.items() if version < last[pair[1]])
 
     def test_who_was_told_what_no_longer_stands_and_nobody_else(self):
         some_were_due = 0
@@ -110,6 +132,30 @@ class WhoIsDue(unittest.TestCase):
                 self.assertEqual(answered[-1], [-8])
 
 
+    def test_told_and_counts_speak_of_the_same_duties(self):
+        for seed in range(220, 250):
+            calls = some_calls(random.Random(seed))[:80]
+            pairs = [(reader, number) for reader in range(5) for number in range(20)]
+            answered = run(*calls, duties(), counts(), *[told(*pair) for pair in pairs])[len(calls):]
+            due = list(zip(answered[0][2::2], answered[0][3::2]))
+            self.assertEqual(answered[1][4], len(due))
+            self.assertEqual([pair for pair, each in zip(pairs, answered[2:]) if each[:2] == [0, 1] and each[3] == 1],
+                             [pair for pair in due if pair[1] < 20])
+
+    def test_behind_a_letter_told_is_the_newest(self):
+        asked = 0
+        for seed in range(250, 270):
+            calls = some_calls(random.Random(seed))[:70]
+            before = run(*calls, duties())[-1]
+            for reader, number in zip(before[2::2], before[3::2]):
+                answered = run(*calls, letter(reader), told(reader, number), versions(number), counts())[-3:]
+                size = 5 + answered[1][3] + answered[1][4 + answered[1][3]]
+                self.assertEqual(answered[0], [0, 1, answered[1][size] - 1, 0])
+                self.assertEqual(answered[2][4], before[1] - before[2::2].count(reader))
+                asked += 1
+        self.assertGreater(asked, 20)
+
+
 def fewest_lines(pieces, width):
     """By trying every place where a line may end."""
     fewest = [0]
@@ -124,15 +170,40 @@ class WidthsOfLines(unittest.TestCase):
         for seed in range(300, 330):
             calls = some_calls(random.Random(seed))
             answered = run(*calls)
-            for call, told in zip(calls, answered):
-                if call[0] == 4 and told[0] == 0:
+            for call, each in zip(calls, answered):
+                if call[0] == 4 and each[0] == 0:
                     width = WIDTHS[call[1]]
-                    for page in pages_of(text_of(run(*calls, show(told[1]))[-1])):
+                    for page in pages_of(text_of(run(*calls, show(each[1]))[-1])):
                         for line in page:
                             self.assertLessEqual(len(line), width)
                             self.assertFalse(line.endswith(" "))
                             longest[width] = max(longest[width], len(line))
         self.assertEqual((longest[20], longest[33], longest[60]), (20, 33, 60))
+
+    def test_no_line_of_a_preview_is_longer_than_its_width(self):
+        for seed in range(330, 350):
+            calls = some_calls(random.Random(seed))
+            for number, width in enumerate(WIDTHS):
+                for page in pages_of(text_of(run(*calls, preview(number, 1, 9))[-1])):
+                    self.assertLessEqual(max([len(line) for line in page], default=0), width)
+
+    def test_of_a_wrapped_text_no_line_is_longer_and_no_fewer_would_do(self):
+        chance = random.Random(401)
+        for step in range(300):
+            width = chance.choice((1, 2, 3, 7, 20, 60, 99, 100))
+            words = [chance.choice("abc") * chance.choice((1, 2, 3, width - 1, width, width + 1, 2 * width + 1))
+                     for word in range(40)]
+            text = (" " * chance.randint(1, 2)).join(words)[:300]
+            pieces = [word[start:start + width] for word in text.split() for start in range(0, len(word), width)]
+            answered = run(wrap(width, text))[0]
+            lines, place = [], 2
+            while place < len(answered):
+                lines.append("".join(map(chr, answered[place + 1:place + 1 + answered[place]])))
+                place += 1 + answered[place]
+            self.assertEqual(answered[:2], [0, len(lines)])
+            self.assertLessEqual(max(map(len, lines)), width)
+            self.assertEqual(" ".join(lines).split(" "), pieces)
+            self.assertEqual(len(lines), fewest_lines(pieces, width))
 
     def test_of_a_text_no_fewer_lines_would_do(self):
         chance = random.Random(400)
